@@ -11,6 +11,7 @@ repr any all divmod'''.split())
 METHODS = set('''append clear copy count endswith extend find get index insert isalnum isalpha isdigit islower isspace
 isupper items join keys ljust lower lstrip partition pop remove replace reverse rfind rjust rpartition rsplit rstrip
 setdefault split splitlines startswith strip update upper values zfill bit_length'''.split())
+HANDED_IN = {'judge', 'is_bad'}
 BARRED = (ast.AsyncFunctionDef, ast.Await, ast.AsyncFor, ast.AsyncWith, ast.Import, ast.Div)
 
 
@@ -103,7 +104,7 @@ class LanguageTest(unittest.TestCase):
                 where = f'{name}:{getattr(node, "lineno", 0)}'
                 self.assertNotIsInstance(node, BARRED, where)
                 if isinstance(node, ast.Call) and isinstance(node.func, ast.Name):
-                    self.assertIn(node.func.id, BUILTINS | own, where)
+                    self.assertIn(node.func.id, BUILTINS | HANDED_IN | own, where)
                 if isinstance(node, ast.Call) and isinstance(node.func, ast.Attribute):
                     self.assertIn(node.func.attr, METHODS | own, where)
                 if isinstance(node, ast.Constant):
