@@ -333,6 +333,14 @@ class LackingTest(HostCase):
         gone = self.commit({'b/c': '1'}, self.first)
         self.assertEqual(self.host.lacking(self.host.propose('ann', 'main', gone)), ('owner a',))
 
+    def test_the_latest_of_several_bases(self):
+        one = self.commit({'a': '1', 'b/c': '1'}, self.first)
+        other = self.commit({'a': 'xyz', 'b/c': '2'}, self.first)
+        self.host.push('ann', 'main', self.commit({'a': '1', 'b/c': '2'}, one, other))
+        self.guard(0, {'': ('bob',)})
+        head = self.commit({'a': '1', 'b/c': '2', 'd': ''}, other, one)
+        self.assertEqual(self.host.lacking(self.host.propose('ann', 'main', head)), ('owner a', 'owner d'))
+
     def test_what_is_lacking_follows_the_branch(self):
         self.guard(0, {'b': ('bob',)})
         one = self.propose({'b/c': '2'}, 'bob')

@@ -97,6 +97,12 @@ class ReadTest(PackCase):
         for parent in ['@1', '@2', '0', '=0', '', '@', '=', '@00', '@-1', '@ 0', '@0 ', '@00000000']:
             with self.subTest(parent):
                 self.assertRaises(PatchError, self.read, begin + ['parent ' + parent, 'message m', 'end'])
+        other = Graph(Contents())
+        known = {0: add(other, {'x': []}), 1: add(other, {'y': []})}
+        self.assertEqual(self.read(begin + ['parent =1', 'message m', 'end'], known, other), (2, 3))
+        for parent in ['@1', '@2', '0', '-1', '1', ' 1', '==1', '=2', '=01']:
+            with self.subTest(parent):
+                self.assertRaises(PatchError, self.read, begin + ['parent ' + parent, 'message m', 'end'], known, other)
 
     def test_no_commits(self):
         self.assertEqual(self.read(['#commits']), ())
@@ -146,6 +152,7 @@ class ReadTest(PackCase):
                       begin + ['file a 1', ' x', 'file a 1', ' x', 'end'], begin + ['parent @0', 'end'],
                       ['#commits', 'commit ann 00', 'message m', 'end'], ['#commits', 'commit ann', 'message m', 'end'],
                       ['#commits', 'commit ann x', 'message m', 'end'], ['#commits', 'commit a b 0', 'message m', 'end'],
+                      ['#commits', 'Commit ann 0', 'message m', 'end'],
                       ['#commits', 'commit ann 0', 'message', 'end']]:
             with self.subTest(lines):
                 self.assertRaises(PatchError, self.read, lines)

@@ -39,7 +39,7 @@ class PartsTest(unittest.TestCase):
                 self.assertRaises(PatchError, conflict_parts, rows(text))
 
     def test_marks_that_are_missing(self):
-        for text in ['<', '<a', '<a=', '<a=b', '<a>', '<a>b=', '<>=', '<a=b><c', '<a=b><c=', '<a=b><c>', 'x<a>y=z>']:
+        for text in ['<', '<a', '<a=', '<a=b', '<a>', '<a>b=', '<>=', '<a=b><c', '<a=b><c=', '<a=b><c>', '<a><b=c>', 'x<a>y=z>']:
             with self.subTest(text):
                 self.assertRaises(PatchError, conflict_parts, rows(text))
 

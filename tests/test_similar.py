@@ -46,6 +46,11 @@ class MovesTest(unittest.TestCase):
         self.assertEqual(self.shown(table(b='q', a='q'), table(a='q')), (('a',), (), ('b',), ()))
         self.assertEqual(self.shown({}, {}), ((), (), (), ()))
 
+    def test_rows_are_told_ascending(self):
+        before = table(z='1', y='2', q='m', p='n', d='3', c='4')
+        after = table(z='1', y='2', b='n', a='m', x='5', w='6')
+        self.assertEqual(self.shown(before, after), (('y', 'z'), (('p', 'b', 100), ('q', 'a', 100)), ('c', 'd'), ('w', 'x')))
+
     def test_moved_gone_and_new(self):
         before = table(b='abcd', a='xyz', keep='k', gone='1')
         after = table(c='abc', d='xyzw', keep='', z='2', y='3')

@@ -43,6 +43,13 @@ class NeededTest(StorageCase):
                          tuple(sorted({*found, *self.graph.contents.reachable(self.graph.commit(self.lost).tree)})))
         self.assertEqual(needed_contents(self.graph, []), ())
 
+    def test_contents_that_were_there_before_their_commits(self):
+        tree = self.graph.contents.put_files({'z': ('z',)})
+        self.add({'y': ['y']})
+        late = self.graph.add(Commit(tree, (), 'ann', 0, 'late'))
+        found = needed_contents(self.graph, [late, late - 1])
+        self.assertEqual((found, len(found)), (tuple(sorted(found)), 4))
+
     def test_unknown_heads(self):
         for call in (needed_commits, needed_contents, compacted, sizes):
             self.assertRaises(GraphError, call, self.graph, [self.first, 7])
@@ -121,7 +128,11 @@ class SizesTest(StorageCase):
 class CheckTest(StorageCase):
     def test_good_graphs(self):
         self.assertIsNone(check_graph(self.graph))
-        self.assertIsNone(check_graph(Graph(Contents())))
+        empty = Graph(Contents())
+        self.assertIsNone(check_graph(empty))
+        # The tree of no files is the first content here.
+        empty.add(Commit(empty.contents.put_files({}), (), 'ann', 0, 'm'))
+        self.assertIsNone(check_graph(empty))
         self.put_from_outside(self.graph.commit(self.one).tree, (self.one, self.two))
         self.assertIsNone(check_graph(self.graph))
 
