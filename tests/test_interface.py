@@ -16,6 +16,9 @@ VALUES = {
     'packs': {'FIRST': '#commits'},
     'similar': {'HALF': 50},
     'host': {'RIGHTS': ('read', 'write', 'admin')},
+    'versions': {'SIGNS_OF_RANGES': ('^', '~', '>=', '<=', '<', '>', '')},
+    'releases': {'CLASSES': ('break', 'add', 'fix')},
+    'issues': {'STATES_OF_ISSUES': ('open', 'doing', 'review', 'done', 'dropped')},
 }
 FUNCTIONS = {
     'contents': {'check_name': 'name', 'parts_of_path': 'path'},
@@ -42,6 +45,14 @@ FUNCTIONS = {
     'settling': {'conflict_parts': 'lines'},
     'finding': {'question_text': 'question', 'quoted_word': 'text', 'parse_question': 'text', 'threes': 'text',
                 'words_of': 'question'},
+    'builds': {'digest_of': 'texts'},
+    'versions': {'parse_version': 'text', 'version_text': 'version', 'parse_range': 'text', 'range_text': 'rows',
+                 'upper_of': 'sign, version', 'in_range': 'version, rows', 'conflicts': 'picked, needs, shelf'},
+    'releases': {'class_of': 'message', 'next_version': 'version, messages', 'notes': 'version, rows',
+                 'change_mark': 'graph, number', 'lacking_changes': 'graph, line, other'},
+    'logbook': {'leaf_mark': 'text', 'joined_mark': 'one, other', 'split_of': 'many',
+                'parts_between': 'start, end, cut', 'check_row': 'text, place, many, proof, mark',
+                'check_growth': 'few, many, proof, before, after', 'mark_by': 'marks, start, end'},
 }
 CLASSES = {
     'errors': {name: {} for name in ERRORS},
@@ -85,6 +96,18 @@ CLASSES = {
     'settling': {'Settler': {'__init__': '', 'learn': 'lines, settled', 'apply': 'lines'}},
     'finding': {'Index': {'__init__': '', 'put': 'path, lines', 'drop': 'path', 'may_have': 'text',
                           'holds': 'question, path', 'candidates': 'question', 'answers': 'question'}},
+    'builds': {'Target': {'__init__': 'name, files, targets, recipe'},
+               'Recipes': {'__init__': 'targets', 'order': 'names', 'needing': 'names'},
+               'Builder': {'__init__': 'plan', 'build': 'files, names, make'}},
+    'versions': {'Shelf': {'__init__': '', 'put': 'name, version, needs', 'versions': 'name'},
+                 'Solver': {'__init__': 'shelf', 'solve': 'needs'}},
+    'issues': {'Issue': {'__init__': 'number, title, author', 'shown': ''},
+               'Tracker': {'__init__': '', 'issue': 'number', 'note': 'who, number, word, rest', 'add': 'who, title',
+                           'give': 'who, number, doer', 'step': 'who, number, state', 'label': 'who, number, label',
+                           'wait': 'who, number, other', 'all_waits': 'number', 'held_by': 'number', 'ready': '',
+                           'board': '', 'long_row': '', 'in_order': ''}},
+    'logbook': {'Logbook': {'__init__': '', 'add': 'text', 'mark': 'many', 'proof_of_row': 'place, many',
+                            'proof_of_growth': 'few, many'}},
 }
 
 
