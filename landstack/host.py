@@ -146,12 +146,17 @@ class Host:
             raise ReviewError(f'{name} has no remark with the number {place} to settle')
         change.settle(place)
 
-    def move(self, name, number, head):
-        """Let a change's author let it end elsewhere; if it is queued, it leaves the queue at its turn."""
+    def own_change(self, name, number):
+        """Return a change of somebody who may write; raise RightError for another one's."""
         self.need(name, 'write')
         change = self.change_of(number)
         if name != change.author:
             raise RightError(f'change {number} is not of {name}')
+        return change
+
+    def move(self, name, number, head):
+        """Let a change's author let it end elsewhere; if it is queued, it leaves the queue at its turn."""
+        change = self.own_change(name, number)
         same = self.graph.commit(head).tree == self.graph.commit(change.head).tree
         change.move(head, same or self.branch_of(change.branch).rules.sticky)
 

@@ -19,6 +19,8 @@ VALUES = {
     'versions': {'SIGNS_OF_RANGES': ('^', '~', '>=', '<=', '<', '>', '')},
     'releases': {'CLASSES': ('break', 'add', 'fix')},
     'issues': {'STATES_OF_ISSUES': ('open', 'doing', 'review', 'done', 'dropped')},
+    'policy': {'DEEDS_OF_POLICY': ('read', 'write', 'review', 'land', 'admin')},
+    'studio': {'FIRST_VERSION': (0, 1, 0)},
 }
 FUNCTIONS = {
     'contents': {'check_name': 'name', 'parts_of_path': 'path'},
@@ -53,6 +55,8 @@ FUNCTIONS = {
     'logbook': {'leaf_mark': 'text', 'joined_mark': 'one, other', 'split_of': 'many',
                 'parts_between': 'start, end, cut', 'check_row': 'text, place, many, proof, mark',
                 'check_growth': 'few, many, proof, before, after', 'mark_by': 'marks, start, end'},
+    'policy': {'rule_of': 'text', 'fits_path': 'pattern, path'},
+    'console': {'whole': 'text'},
 }
 CLASSES = {
     'errors': {name: {} for name in ERRORS},
@@ -108,6 +112,23 @@ CLASSES = {
                            'board': '', 'long_row': '', 'in_order': ''}},
     'logbook': {'Logbook': {'__init__': '', 'add': 'text', 'mark': 'many', 'proof_of_row': 'place, many',
                             'proof_of_growth': 'few, many'}},
+    'policy': {'Rule': {'__init__': 'word, who, deeds, pattern', 'shown': ''},
+               'Policy': {'__init__': '', 'put_group': 'name, members', 'put_rule': 'text', 'groups_of': 'person',
+                          'deciding': 'person, deed, path', 'may': 'person, deed, path',
+                          'who_may': 'persons, deed, path', 'useless': 'persons, paths', 'all_rights': 'persons, paths'}},
+    'impact': {'Suite': {'__init__': '', 'add': 'name, patterns, needs=(), length=1', 'touched': 'paths',
+                         'with_needs': 'names', 'shares': 'names, machines'},
+               'Trust': {'__init__': '', 'note': 'test, tree, good', 'doubtful': 'many=2', 'verdict': 'tree, tests',
+                         'bad_since': 'test, trees'}},
+    'hooks': {'Hook': {'__init__': 'name, words'},
+              'Teller': {'__init__': '', 'add': 'name, words', 'hook': 'name', 'happen': 'word, text', 'tick': 'send',
+                         'switch': 'name, on'}},
+    'studio': {'Studio': {'__init__': 'host', 'propose': 'name, branch, number', 'files_of': 'number',
+                          'talk_of': 'number', 'say': 'name, number, spot, text', 'answer': 'name, number, place, text',
+                          'settle': 'name, number, place', 'move': 'name, number, head', 'tests_of': 'number',
+                          'note': 'name, number, test, good', 'lacking': 'number', 'land': 'name, number', 'tick': '',
+                          'release': 'name, branch'}},
+    'console': {'Console': {'__init__': "owner, word='bad'", 'enter': 'name, line'}},
 }
 
 

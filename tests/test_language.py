@@ -11,7 +11,7 @@ repr any all divmod'''.split())
 METHODS = set('''append clear copy count endswith extend find get index insert isalnum isalpha isdigit islower isspace
 isupper items join keys ljust lower lstrip partition pop remove replace reverse rfind rjust rpartition rsplit rstrip
 setdefault split splitlines startswith strip update upper values zfill bit_length'''.split())
-HANDED_IN = {'judge', 'is_bad', 'make'}
+HANDED_IN = {'judge', 'is_bad', 'make', 'send', 'action'}
 BARRED = (ast.AsyncFunctionDef, ast.Await, ast.AsyncFor, ast.AsyncWith, ast.Import, ast.Div)
 
 
