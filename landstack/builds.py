@@ -121,6 +121,7 @@ class Builder:
                 made[name] = self.made.get(name, 0) + 1
             texts[name] = fresh[known] if known in fresh else self.kept[known]
         # Only here is anything noted: if one thing could not be made, nothing has changed.
-        self.kept.update(fresh)
+        for known, text in fresh.items():
+            self.kept[known] = text
         self.made.update(made)
         return {name: texts[name] for name in names}

@@ -92,6 +92,7 @@ class WorkTest(ConsoleCase):
                 'show 0 x', 'diff 0 1 a x', 'propose main 1 x', 'vote 0 + x', 'lacking 0 x', 'land 0 x', 'move 0 1 x', 'drop 0 x',
                 'allow bob read x', 'guard free 0 x', 'go 1 x', 'queue main x', 'new ', 'show 0 ', 'go 1 ']
         self.refused('root', *few, *many)
+        self.refused('ann', 'move 0', 'move 0 0 x', 'move 0 0 ')
 
     def test_texts(self):
         self.say('ann', 'begin main')
