@@ -39,7 +39,8 @@ class Hook:
     def note(self, taken, time):
         """Note whether the first event was taken at a time."""
         if taken:
-            self.held.pop(0)
+            # Whoever takes it may switch the hook off: then nothing is held any more.
+            del self.held[:1]
             self.tries = 0
         elif self.tries < len(TICKS_BEHIND_FAILURES):
             self.due_at = time + TICKS_BEHIND_FAILURES[self.tries]

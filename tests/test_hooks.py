@@ -145,6 +145,20 @@ class TellerTest(HookCase):
         self.assertEqual(self.sent, ['push', 'told'])
 
 
+    def test_what_takes_an_event_may_switch_the_hook_off(self):
+        self.teller.add('a', ['push'])
+
+        def send(name, event):
+            self.sent.append(event)
+            self.teller.switch(name, False)
+            return True
+        self.teller.happen('push', 'x')
+        self.teller.happen('push', 'y')
+        self.teller.tick(send)
+        self.assertEqual(self.sent, [(1, 'push', 'x')])
+        self.assertEqual(self.told('a'), (0, 1, 'off', 0, []))
+
+
 class SwitchTest(HookCase):
     def setUp(self):
         HookCase.setUp(self)
